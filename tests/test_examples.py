@@ -1,0 +1,119 @@
+"""The examples of the document, as they stand there, section by section in one space of names."""
+
+import unittest
+
+HOUSES = """
+>>> from nextkind.houses import House
+>>> two = House(s=1, b=1)
+>>> [two.bays, two["s"], two["n"], two.total, str(two), two == House(b=1, s=1, n=0), "n" in two, list(two)]
+[('b', 's'), 1, 0, 2, 'b 1 s 1', True, False, ['b', 's']]
+>>> [str(two + House(s=2)), str(3 * two), str(House(s=7) // 2), str(House(s=7) % 2), str(two & House(s=5)), str(two | House(s=5))]
+['b 1 s 3', 'b 3 s 3', 's 3', 's 1', 's 1', 'b 1 s 5']
+>>> [two <= House(s=1, b=2), House(s=2) <= House(b=2), House(b=2) <= House(s=2), [str(house) for house in two.lesser()]]
+[True, False, False, ['none', 's 1', 'b 1', 'b 1 s 1']]
+>>> two - House(b=2)
+raises Lacking('b')
+"""
+
+RULES = """
+>>> from nextkind.rules import Even, First, Rule, parting
+>>> rule = First("s", ("n", 2), ("s", 3)) | First("n", "b")
+>>> [rule.picks, rule == First("s", "n", "b"), rule.bays, rule.keep("n"), rule.keep("a"), str(rule + 1)]
+[(('s', 0), ('n', 0), ('b', 0)), True, ('b', 'n', 's'), 0, None, 's keep 1 or n keep 1 or b keep 1']
+>>> [rule(House(n=1, b=5)), rule(House()), str(rule - "s"), len(First()), str(First())]
+['n', None, 'n or b', 0, '-']
+>>> even = Even("n", "m", most=2)
+>>> [even.picks, even(House(n=1, m=2)), even(House(n=3, m=9)), even(House(m=1))]
+[(('n', 1), ('m', 1), ('n', 0), ('m', 0)), 'm', 'n', 'm']
+>>> [(First("s", ("s", 9)) + 1).picks, Rule.read("or or keep") == First("or", "keep")]
+[(('s', 1),), True]
+>>> [str(parting(First("n"), First(("n", 1)))), str(parting(First("n", "s"), First("s", "n"))), parting(even, Even("n", "m", most=2))]
+['n 1', 'n 1 s 1', None]
+>>> Rule.read("s or n keep 12")
+raises BadText(0, 4)
+"""
+
+QUOTAS = """
+>>> from nextkind.quotas import Cap, Quota
+>>> quota = Cap(2, "small") & Cap(1, "big") & Cap(2, "small", "big")
+>>> [{"small": 1, "big": 1} in quota, {"small": 2, "big": 1} in quota, {"tiny": 99} in quota, len(quota), quota.bounds("tiny")]
+[True, False, True, 3, False]
+>>> [quota.listed("big", "small"), quota.fullest("big", "small"), (quota | Cap(3, "big", "small")).fullest("big", "small")]
+[((0, 0), (0, 1), (0, 2), (1, 0), (1, 1)), ((0, 2), (1, 1)), ((0, 3), (1, 2), (2, 1), (3, 0))]
+>>> str(quota)
+'both both cap 2 1 small cap 1 1 big cap 2 2 big small'
+>>> (quota | Cap(1, "big")).listed("big", "small")
+raises Unlimited('small')
+"""
+
+BOOKS = """
+>>> from nextkind.books import Book
+>>> from nextkind.standings import Standing
+>>> book = Book(quota, small=First("s", "b"), big=First("b"))
+>>> [book.kinds, book.bays, book.pairs, str(book.enough), book.at_once("small", "big"), book.at_once("big"), str(book["small"])]
+[('big', 'small'), ('b', 's'), (('big', 'b'), ('small', 'b'), ('small', 's')), 'b 2 s 2', 2, 1, 's or b']
+>>> kept = book.exchanged("small", First("s", ("b", 1)))
+>>> [str(kept.enough), kept.fate(two, Standing({("small", "s"): 1}), "small"), book.fate(two, Standing({("small", "s"): 1}), "small")]
+['b 3 s 2', ('refused',), ('goes', 'b')]
+>>> [book.fate(two, Standing({("small", "s"): 1, ("small", "b"): 1}), "big"), book.fate(two, Standing({("small", "b"): 1}), "big")]
+[('barred',), ('refused',)]
+>>> Book(Cap(2, "small"), small=First("s"), big=First("b"))
+raises Unlimited('big')
+"""
+
+STANDINGS = """
+>>> from nextkind.standings import Standing, fitting
+>>> both = Standing({("small", "s"): 1, ("big", "b"): 1, ("small", "b"): 0})
+>>> [str(both), both.parts, both.counts, str(both.taken), both["small", "b"], both.of_kind("small"), both.in_bay("b"), list(both)]
+['big b 1 small s 1', (('big', 'b', 1), ('small', 's', 1)), {'big': 1, 'small': 1}, 'b 1 s 1', 0, 1, 1, [('big', 'b'), ('small', 's')]]
+>>> [str(standing) for standing in fitting(book, two)]
+['none', 'small s 1', 'small b 1', 'small b 1 small s 1', 'big b 1', 'big b 1 small s 1']
+>>> [both.fits(book, two), both.fits(book, House(b=1)), str(both.left_free(House(b=3, s=1))), str(both - Standing({("big", "b"): 1}))]
+[True, False, 'b 2', 'small s 1']
+>>> both.without_one("small", "b")
+raises NotThere('small', 'b')
+"""
+
+READERS = """
+>>> [House.read("none") == House(), House.read("none 3")["none"], str(Standing.read("a b 2 a c 1"))]
+[True, 3, 'a b 2 a c 1']
+>>> Quota.read("both cap 2 1 a cap 13 0")
+raises BadText(0, 6)
+>>> Standing.read("a c 1 a b 2")
+raises BadText(0, 4)
+"""
+
+
+def answer(line, names):
+    """What a line of an example shows: the repr of its value, the error that it raises, or nothing."""
+    try:
+        code = compile(line, "example", "eval")
+    except SyntaxError:
+        exec(line, names)
+        return None
+    try:
+        return repr(eval(code, names))
+    except ValueError as error:
+        return "raises " + repr(error)
+
+
+class Examples(unittest.TestCase):
+    maxDiff = None
+
+    def test_examples(self):
+        names = {}
+        for section in (HOUSES, RULES, QUOTAS, BOOKS, STANDINGS, READERS):
+            lines = section.strip().split("\n")
+            shown = []
+            for line in lines:
+                if not line.startswith(">>> "):
+                    continue
+                shown.append(line)
+                told = answer(line[4:], names)
+                if told is not None:
+                    shown.append(told)
+            self.assertEqual(shown, lines)
+
+
+if __name__ == "__main__":
+    unittest.main()

@@ -1,0 +1,86 @@
+"""What the interface lists: where each function, class and method is defined, and how its arguments are called."""
+
+import importlib
+import inspect
+import unittest
+
+CLASSES = {
+    "nextkind.houses.House": {
+        "__init__": "self **places", "of": "cls table", "none": "", "put": "self bay number", "lesser": "self",
+        "read": "cls text", "bays": None, "total": None},
+    "nextkind.pairs.Pair": {"__init__": "self first second", "first": None, "second": None},
+    "nextkind.rules.Rule": {
+        "picks": None, "bays": None, "keep": "self bay", "__call__": "self free", "read": "cls text"},
+    "nextkind.rules.First": {"__init__": "self *picks", "of": "cls picks", "read": "cls text"},
+    "nextkind.rules.Even": {"__init__": "self *bays most=3", "read": "cls text"},
+    "nextkind.rules.Else": {"__init__": "self one other", "read": "cls text"},
+    "nextkind.quotas.Quota": {
+        "kinds": None, "bounds": "self kind", "listed": "self *kinds", "fullest": "self *kinds", "read": "cls text"},
+    "nextkind.quotas.Cap": {"__init__": "self most *kinds", "read": "cls text"},
+    "nextkind.quotas.Both": {"__init__": "self first second", "read": "cls text"},
+    "nextkind.quotas.Either": {"__init__": "self first second", "read": "cls text"},
+    "nextkind.books.Book": {
+        "__init__": "self quota **rules", "of": "cls quota table", "quota": None, "kinds": None, "bays": None,
+        "pairs": None, "enough": None, "at_once": "self *kinds", "exchanged": "self kind rule", "without": "self kind",
+        "under": "self quota", "fate": "self house standing kind"},
+    "nextkind.standings.Standing": {
+        "__init__": "self table", "none": "", "total": None, "counts": None, "taken": None, "parts": None,
+        "of_kind": "self kind", "in_bay": "self bay", "with_one": "self kind bay", "without_one": "self kind bay",
+        "fits": "self book house", "left_free": "self house", "read": "cls text"},
+}
+
+SIGNS = {
+    "nextkind.houses.House": "getitem contains len iter add sub mul rmul floordiv mod and or le lt ge gt eq bool str",
+    "nextkind.rules.Rule": "len iter contains or add sub eq str",
+    "nextkind.quotas.Quota": "contains len and or eq str",
+    "nextkind.books.Book": "getitem contains len iter eq",
+    "nextkind.standings.Standing": "getitem len iter add sub and or le lt ge gt eq str",
+}
+
+FUNCTIONS = {"nextkind.rules.parting": "one other", "nextkind.standings.fitting": "book house"}
+
+
+def found(path):
+    """What stands under a name in a module."""
+    module, name = path.rsplit(".", 1)
+    return vars(importlib.import_module(module))[name]
+
+
+def arguments(function):
+    """The names of a function's parameters, with their stars and defaults."""
+    rows = inspect.signature(function).parameters.values()
+    return " ".join(str(row) for row in rows)
+
+
+class Interface(unittest.TestCase):
+    def test_classes_and_methods(self):
+        for path, methods in CLASSES.items():
+            made = found(path)
+            self.assertEqual(made.__module__, path.rsplit(".", 1)[0])
+            for name, told in methods.items():
+                held = vars(made)[name]
+                if told is None:
+                    self.assertIsInstance(held, property, (path, name))
+                    continue
+                self.assertEqual(isinstance(held, classmethod), told.startswith("cls"), (path, name))
+                self.assertEqual(isinstance(held, staticmethod), told == "", (path, name))
+                self.assertEqual(arguments(getattr(held, "__func__", held)), told, (path, name))
+
+    def test_signs(self):
+        for path, names in SIGNS.items():
+            for name in names.split():
+                self.assertIn(f"__{name}__", vars(found(path)), path)
+
+    def test_functions(self):
+        for path, told in FUNCTIONS.items():
+            function = found(path)
+            self.assertEqual(function.__module__, path.rsplit(".", 1)[0])
+            self.assertEqual(arguments(function), told)
+
+    def test_generators(self):
+        self.assertTrue(inspect.isgeneratorfunction(found("nextkind.standings.fitting")))
+        self.assertTrue(inspect.isgeneratorfunction(vars(found("nextkind.houses.House"))["lesser"]))
+
+
+if __name__ == "__main__":
+    unittest.main()
