@@ -2,7 +2,7 @@
 
 from nextkind.checks import ascending, is_name
 from nextkind.errors import BadName, BadQuota, BadRule, BadTable, Misfit, NoKind, TooMany
-from nextkind.houses import House
+from nextkind.houses import house_with
 from nextkind.quotas import Quota
 from nextkind.rules import Rule
 from nextkind.standings import misfit
@@ -59,7 +59,7 @@ class Book:
     @property
     def enough(self):
         """The house that is enough: with more places in a bay nothing is done otherwise."""
-        return House.of({bay: enough_in(self, bay) for bay in self._bays})
+        return house_with({bay: enough_in(self, bay) for bay in self._bays})
 
     def at_once(self, *kinds):
         """The greatest number of things of these kinds together that the quota lets at once."""

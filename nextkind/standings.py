@@ -2,7 +2,7 @@
 
 from nextkind.checks import ascending, is_name, numbers_told
 from nextkind.errors import BadName, BadTable, Lacking, NotThere, TooMany
-from nextkind.houses import House
+from nextkind.houses import house_with
 from nextkind.words import Words
 
 
@@ -41,7 +41,7 @@ class Standing:
     @property
     def taken(self):
         """The house that tells how many things each bay holds."""
-        return House.of(summed(self, 1))
+        return house_with(summed(self, 1))
 
     @property
     def parts(self):
@@ -74,7 +74,7 @@ class Standing:
         for bay in held:
             if held[bay] > house[bay]:
                 raise Lacking(bay)
-        return House.of({bay: house[bay] - held.get(bay, 0) for bay in house})
+        return house_with({bay: house[bay] - held.get(bay, 0) for bay in house})
 
     def __getitem__(self, at):
         return self._numbers.get(at, 0) if is_pair(at) else 0

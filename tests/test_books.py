@@ -153,6 +153,7 @@ class Asked(unittest.TestCase):
         self.assertEqual(book.enough, House(s=9, t=3, u=12))
         self.assertEqual(Book(Cap(0, "a"), a=First(("s", 3))).enough, House())
         self.assertEqual(Book(Cap(2, "a"), a=First(("s", 1), ("s", 4))).enough, House(s=3))
+        self.assertEqual(Book.of(Cap(12, "a"), {"a": First("self", ("none", 9))}).enough, House.of({"self": 12, "none": 21}))
 
     def test_equal(self):
         same = [Book(Cap(1, "a", "b"), a=First("s"), b=First("t")), Book(Cap(1, "b", "a"), b=First("t"), a=First("s")),

@@ -111,6 +111,13 @@ class Asked(unittest.TestCase):
         check_error(self, ("BadNumber", ("value", GREAT + 2)), lambda: standing.taken)
         self.assertEqual(Standing({("a", "b"): GREAT - 1, ("b", "b"): 1}).taken, House(b=GREAT))
 
+    def test_taken(self):
+        self.assertEqual(Standing.none().taken, House())
+        self.assertEqual(Standing({("b", "self"): 1, ("a", "self"): 2, ("a", "c"): 3}).taken, House.of({"self": 3, "c": 3}))
+        wide = Standing({("a", "c"): GREAT, ("a", "b"): 5, ("b", "b"): GREAT, ("b", "c"): 1, ("z", "a"): GREAT})
+        check_error(self, ("BadNumber", ("value", GREAT + 5)), lambda: wide.taken)
+        check_error(self, ("BadNumber", ("value", 2 * GREAT)), lambda: (wide | Standing({("a", "b"): GREAT})).taken)
+
     def test_with_one_and_without_one(self):
         standing = Standing({("a", "b"): 1, ("b", "b"): GREAT})
         self.assertEqual(standing.with_one("a", "b").parts, (("a", "b", 2), ("b", "b", GREAT)))
