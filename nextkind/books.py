@@ -1,11 +1,11 @@
 """Books: a quota and a rule for each kind; all but the numbers of places."""
 
 from nextkind.checks import ascending, is_name
-from nextkind.errors import BadName, BadQuota, BadRule, BadTable, Misfit, NoKind, TooMany
+from nextkind.errors import BadName, BadQuota, BadRule, BadTable, NoKind, TooMany
 from nextkind.houses import house_with
 from nextkind.quotas import Quota
 from nextkind.rules import Rule
-from nextkind.standings import misfit
+from nextkind.standings import check_fit
 
 
 class Book:
@@ -92,9 +92,7 @@ class Book:
     def fate(self, house, standing, kind):
         """What a coming of a kind does at a standing."""
         rule = self[kind]
-        part = misfit(standing, self, house)
-        if part is not None:
-            raise Misfit(part)
+        check_fit(standing, self, house)
         if not self.lets(tuple([standing.of_kind(name) + (1 if name == kind else 0) for name in self._kinds])):
             return ("barred",)
         bay = rule(standing.left_free(house))

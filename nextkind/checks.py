@@ -1,6 +1,6 @@
-"""What a name and a number are, and how tables from keys to numbers are taken over."""
+"""What a name, a number and a kind that is asked for are, and how tables from keys to numbers are taken over."""
 
-from nextkind.errors import BadNumber
+from nextkind.errors import BadNumber, NoKind
 
 
 def is_name(value):
@@ -35,3 +35,9 @@ def numbers_told(table):
         if not is_number(table[key]):
             raise BadNumber(table[key])
     return {key: table[key] for key in keys if table[key] > 0}
+
+
+def check_kind(book, kind):
+    """Raise NoKind unless any value is a kind of a book, or None for all of them."""
+    if kind is not None and kind not in book:
+        raise NoKind(kind)

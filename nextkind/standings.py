@@ -1,7 +1,7 @@
 """Standings: how many things of each kind stand in each bay."""
 
 from nextkind.checks import ascending, is_name, numbers_told
-from nextkind.errors import BadName, BadTable, Lacking, NotThere, TooMany
+from nextkind.errors import BadName, BadTable, Lacking, Misfit, NotThere, TooMany
 from nextkind.houses import house_with
 from nextkind.words import Words
 
@@ -151,30 +151,45 @@ def misfit(standing, book, house):
     return None
 
 
+def check_fit(standing, book, house):
+    """Raise Misfit unless a standing fits a book and a house."""
+    part = misfit(standing, book, house)
+    if part is not None:
+        raise Misfit(part)
+
+
+def standing_with(things):
+    """The standing of a dict of numbers from 1, which is known to be ascending by its pairs."""
+    standing = Standing({})
+    standing._numbers = things
+    standing._pairs = tuple(things)
+    return standing
+
+
 def fitting(book, house):
     """All standings that fit, ascending as tuples of the numbers of the book's pairs."""
     pairs = book.pairs
-    for numbers in fitting_numbers(book, house):
-        yield Standing({pair: number for pair, number in zip(pairs, numbers)})
+    for row in fitting_rows(book, house, 2000):
+        yield standing_with({pair: number for pair, number in zip(pairs, row[0]) if number > 0})
 
 
-def fitting_numbers(book, house):
-    """The numbers of the book's pairs in each standing that fits, ascending."""
+def fitting_rows(book, house, most):
+    """For each standing that fits, at most so many, in order: its numbers by pairs, its counts, the free places."""
     # What is below a standing that fits does, too: no beginning of these numbers is without an end.
     rows = [((), tuple([0 for _ in book]), tuple([house[bay] for bay in book.bays]))]
     for kind, bay in book.pairs:
-        rows = longer_numbers(book, rows, book.kinds.index(kind), book.bays.index(bay))
-    return [numbers for numbers, counts, free in rows]
+        rows = longer_fitting(book, rows, book.kinds.index(kind), book.bays.index(bay), most)
+    return rows
 
 
-def longer_numbers(book, rows, kind_at, bay_at):
+def longer_fitting(book, rows, kind_at, bay_at, most):
     """The rows, numbers with the counts and the free places, with each number at one pair more that fits."""
     longer = []
     for numbers, counts, free in rows:
         number = 0
         while free[bay_at] >= 0 and book.lets(counts):
-            if len(longer) == 2000:
-                raise TooMany("standings", 2000)
+            if len(longer) == most:
+                raise TooMany("standings", most)
             longer.append((numbers + (number,), counts, free))
             number = number + 1
             counts = changed(counts, kind_at, 1)

@@ -1,5 +1,7 @@
 """What several tests need: any values, and a look at the error that a call raises."""
 
+import reprlib
+
 from nextkind.houses import House
 from nextkind.pairs import Pair
 from nextkind.quotas import Cap
@@ -46,12 +48,13 @@ def same(one, other):
 def check_error(case, told, call, *values, **named):
     """Fail unless the call raises the error told: its name and its fields, a tuple of pairs."""
     found = error_of(call, *values, **named)
-    case.assertIsNotNone(found, (told, values, named))
-    case.assertEqual(found[0], told[0], (told, values, named))
+    shown = reprlib.repr((told, found, values, named))
+    case.assertIsNotNone(found, shown)
+    case.assertEqual(found[0], told[0], shown)
     fields = dict(told[1:])
-    case.assertEqual(sorted(found[1]), sorted(fields), (told, values, named))
+    case.assertEqual(sorted(found[1]), sorted(fields), shown)
     for name in fields:
-        case.assertTrue(same(found[1][name], fields[name]), (told, found, values, named))
+        case.assertTrue(same(found[1][name], fields[name]), shown)
 
 
 def bad_text(word):

@@ -74,6 +74,43 @@ STANDINGS = """
 raises NotThere('small', 'b')
 """
 
+DEEDS = """
+>>> from nextkind.deeds import Come, Go, Row
+>>> row = Row(Come("small"), Come("small"), Go("small", "s"))
+>>> [str(row), row.parts[2], row.comings, len(row.until(2)), Come("z") == Go("z", "a"), Row.from_parts(row.parts) == row]
+['come small ; come small ; go small s', ('go', 'small', 's'), 2, 2, False, True]
+>>> Row.read("come small ; go small")
+raises BadText(0, 5)
+"""
+
+HALLS = """
+>>> from nextkind.halls import Hall
+>>> hall = Hall(book, two)
+>>> [hall.come("small"), hall.come("small"), hall.fate("big"), hall.go("small", "s"), hall.fate("big"), str(hall.free), str(hall.row)]
+['s', 'b', ('barred',), None, ('refused',), 's 1', 'come small ; come small ; go small s']
+>>> hall += "small"
+>>> hall -= ("small", "b")
+>>> [hall.tried(lambda held: held.come("big")), str(hall.standing), len(hall), hall["small", "s"], hall.undo(), str(hall.standing), "big" in hall]
+['b', 'small s 1', 1, 1, True, 'small b 1 small s 1', False]
+>>> hall.come("big")
+raises Barred('big')
+>>> hall.play(Row(Go("small", "s"), Come("big")))
+raises Refused('big', 'b')
+"""
+
+REACH = """
+>>> from nextkind.reach import reach
+>>> reached = reach(book, two)
+>>> [bool(reached), len(reached), [str(standing) for standing in reached.greatest], reached.refused, str(reached.refusal()[1])]
+[False, 6, ['small b 1 small s 1', 'big b 1 small s 1'], ('big',), 'come small ; come small ; go small s']
+>>> [reached.refusal("small"), reached.at_once(), reached.at_once("small", "b"), str(reached.row_to(both)), bool(reach(book, House(b=1, s=2)))]
+[None, 2, 1, 'come big ; come small', True]
+>>> [str(row) for row in reached.rows(2)]
+['come big ; come small', 'come big ; go big b', 'come small ; come big', 'come small ; come small', 'come small ; go small s']
+>>> reach(book, House(b=1, s=2)).row_to(Standing({("small", "b"): 1}))
+raises Never
+"""
+
 READERS = """
 >>> [House.read("none") == House(), House.read("none 3")["none"], str(Standing.read("a b 2 a c 1"))]
 [True, 3, 'a b 2 a c 1']
@@ -94,7 +131,15 @@ def answer(line, names):
     try:
         return repr(eval(code, names))
     except ValueError as error:
-        return "raises " + repr(error)
+        return error_shown(error)
+
+
+def error_shown(error):
+    """How an example shows an error: its class, and what it was made with but where that is an object."""
+    fields = list(vars(error).values())
+    if any(not isinstance(field, (str, int)) for field in fields):
+        return f"raises {error.__class__.__name__}"
+    return "raises " + repr(error)
 
 
 class Examples(unittest.TestCase):
@@ -102,7 +147,7 @@ class Examples(unittest.TestCase):
 
     def test_examples(self):
         names = {}
-        for section in (HOUSES, RULES, QUOTAS, BOOKS, STANDINGS, READERS):
+        for section in (HOUSES, RULES, QUOTAS, BOOKS, STANDINGS, DEEDS, HALLS, REACH, READERS):
             lines = section.strip().split("\n")
             shown = []
             for line in lines:

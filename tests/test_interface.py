@@ -2,6 +2,7 @@
 
 import importlib
 import inspect
+import sys
 import unittest
 
 CLASSES = {
@@ -27,6 +28,19 @@ CLASSES = {
         "__init__": "self table", "none": "", "total": None, "counts": None, "taken": None, "parts": None,
         "of_kind": "self kind", "in_bay": "self bay", "with_one": "self kind bay", "without_one": "self kind bay",
         "fits": "self book house", "left_free": "self house", "read": "cls text"},
+    "nextkind.deeds.Deed": {"parts": None},
+    "nextkind.deeds.Come": {"__init__": "self kind", "parts": None},
+    "nextkind.deeds.Go": {"__init__": "self kind bay", "parts": None},
+    "nextkind.deeds.Row": {
+        "__init__": "self *deeds", "of": "cls deeds", "parts": None, "comings": None, "until": "self k", "read": "cls text",
+        "from_parts": "cls parts"},
+    "nextkind.halls.Hall": {
+        "__init__": "self book house", "beginning": "cls book house standing", "standing": None, "free": None, "row": None,
+        "book": None, "house": None, "come": "self kind", "go": "self kind bay", "fate": "self kind", "do": "self deed",
+        "play": "self row", "undo": "self", "trial": "self", "tried": "self work"},
+    "nextkind.reach.Reach": {
+        "greatest": None, "row_to": "self standing", "refused": None, "refusal": "self kind=None",
+        "at_once": "self kind=None bay=None", "rows": "self n"},
 }
 
 SIGNS = {
@@ -35,9 +49,17 @@ SIGNS = {
     "nextkind.quotas.Quota": "contains len and or eq str",
     "nextkind.books.Book": "getitem contains len iter eq",
     "nextkind.standings.Standing": "getitem len iter add sub and or le lt ge gt eq str",
+    "nextkind.deeds.Deed": "eq str",
+    "nextkind.deeds.Come": "eq str",
+    "nextkind.deeds.Go": "eq str",
+    "nextkind.deeds.Row": "len getitem iter add eq str",
+    "nextkind.halls.Hall": "len contains getitem setitem iadd isub",
+    "nextkind.reach.Reach": "contains len iter bool",
 }
 
-FUNCTIONS = {"nextkind.rules.parting": "one other", "nextkind.standings.fitting": "book house"}
+FUNCTIONS = {"nextkind.rules.parting": "one other", "nextkind.standings.fitting": "book house",
+             "nextkind.reach.reach": "book house"}
+GENERATORS = ("nextkind.standings.fitting", "nextkind.houses.House.lesser", "nextkind.reach.Reach.rows")
 
 
 def found(path):
@@ -78,8 +100,10 @@ class Interface(unittest.TestCase):
             self.assertEqual(arguments(function), told)
 
     def test_generators(self):
-        self.assertTrue(inspect.isgeneratorfunction(found("nextkind.standings.fitting")))
-        self.assertTrue(inspect.isgeneratorfunction(vars(found("nextkind.houses.House"))["lesser"]))
+        for path in GENERATORS:
+            place, name = path.rsplit(".", 1)
+            held = found(path) if place in sys.modules else vars(found(place))[name]
+            self.assertTrue(inspect.isgeneratorfunction(held), path)
 
 
 if __name__ == "__main__":

@@ -10,7 +10,7 @@ FILES = {path.name: path.read_text(encoding="utf-8") for path in sorted(FOLDER.g
 TREES = {name: ast.parse(text) for name, text in FILES.items()}
 
 BUILTINS = set("""len range enumerate zip min max sum abs sorted reversed int str bool list tuple dict set isinstance ord
-repr any all divmod iter ValueError property classmethod staticmethod""".split())
+repr any all divmod iter ValueError TypeError property classmethod staticmethod""".split())
 NO_NAMES = set("""register mro elements open input law version_info with_traceback add_note attrgetter breakpoint builtins
 compile copyright credits delattr dir eval exec exit gc getattr globals hasattr help id importlib license locals
 methodcaller os quit setattr super type vars sys""".split())
@@ -18,6 +18,7 @@ NO_WORDS = set("""type typing typing_extensions enum Enum IntEnum StrEnum Flag I
 namedtuple NamedTuple TypedDict TYPE_CHECKING abstractmethod dataclass overload contextmanager""".split())
 SIGNS = set("""init eq repr str len enter exit call iter lt le gt ge ne add sub mul floordiv mod and or rmul iadd isub
 bool contains getitem setitem""".split())
+FREE = ("__init__", "__enter__", "__exit__", "__setitem__", "__iadd__", "__isub__")
 NO_STATEMENTS = (ast.Global, ast.AsyncFunctionDef, ast.AsyncFor, ast.AsyncWith, ast.AugAssign, ast.GeneratorExp,
                  ast.Lambda, ast.AnnAssign, ast.Await, ast.Div, ast.Import, ast.Try, ast.Nonlocal)
 
@@ -124,10 +125,14 @@ class Statements(unittest.TestCase):
 
     def test_raise_makes_its_error_on_the_spot(self):
         errors = {node.name for node in TREES["errors.py"].body if isinstance(node, ast.ClassDef)}
+        refusals = [node.body[0] for name, node in functions() if node.name == "__iter__"]
         for name, node in walk(ast.Raise):
             self.assertIsInstance(node.exc, ast.Call, name)
-            self.assertIn(node.exc.func.id, errors, name)
             self.assertEqual(node.exc.keywords, [], name)
+            # A class that is asked by an index, but not gone through, has an `__iter__` that says so.
+            self.assertIn(node.exc.func.id, {"TypeError"} if node in refusals else errors, name)
+            if node.cause is not None and ast.unparse(node.cause) != "None":
+                self.assertIn(node.cause.func.id, errors, name)
 
     def test_is_beside_none_alone(self):
         for name, node in walk(ast.Compare):
@@ -161,6 +166,36 @@ class Statements(unittest.TestCase):
         for name, node in walk(ast.BinOp):
             if isinstance(node.op, ast.Pow):
                 self.assertTrue(isinstance(node.right, ast.Constant) and 0 <= node.right.value <= 64, name)
+
+
+class With(unittest.TestCase):
+    def test_what_enter_and_exit_do(self):
+        for name, made in classes():
+            rows = {node.name: node for node in made.body if isinstance(node, ast.FunctionDef)}
+            self.assertEqual("__enter__" in rows, "__exit__" in rows, made.name)
+            if "__exit__" in rows:
+                self.assertEqual([arg.arg for arg in rows["__exit__"].args.args], ["self", "kind", "value", "trace"])
+                for row in rows["__exit__"].body:
+                    self.assertIsInstance(row, ast.Assign, name)
+                    self.assertIsInstance(row.value, ast.Attribute, name)
+
+    def test_what_is_held(self):
+        for name, node in walk(ast.With):
+            self.assertEqual([ast.unparse(item.context_expr) for item in node.items], ["self.trial()"], name)
+
+
+class Indexed(unittest.TestCase):
+    def test_iteration_beside_an_index(self):
+        for name, made in classes():
+            rows = {node.name: node for node in made.body if isinstance(node, ast.FunctionDef)}
+            if "__getitem__" in rows:
+                self.assertIn("__iter__", rows, made.name)
+            if "__iter__" in rows:
+                self.assertEqual(len(rows["__iter__"].body), 1)
+                self.assertIn(ast.unparse(rows["__iter__"].body[0])[:17], ("return iter(self.", "raise TypeError('"))
+            for told, node in rows.items():
+                if told == "__len__":
+                    self.assertEqual(ast.unparse(node.body[-1])[:11], "return len(", made.name)
 
 
 class Names(unittest.TestCase):
@@ -204,7 +239,7 @@ class Names(unittest.TestCase):
 
     def test_generators(self):
         yielding = [node.name for _, node in functions() if any(isinstance(inner, ast.Yield) for inner in ast.walk(node))]
-        self.assertEqual(sorted(yielding), ["fitting", "lesser"])
+        self.assertEqual(sorted(yielding), ["fitting", "lesser", "rows"])
         for told in yielding:
             self.assertEqual(len([1 for _, node in functions() if node.name == told]), 1)
             called = [node for _, node in walk(ast.Call)
@@ -215,7 +250,7 @@ class Names(unittest.TestCase):
         """No operator and no property assigns an attribute or an item."""
         for name, made in classes():
             for node in made.body:
-                if not isinstance(node, ast.FunctionDef) or node.name in ("__init__", "_fill"):
+                if not isinstance(node, ast.FunctionDef) or node.name in FREE:
                     continue
                 changed = [inner for inner in ast.walk(node) if isinstance(inner, (ast.Attribute, ast.Subscript))
                            and isinstance(inner.ctx, (ast.Store, ast.Del))]

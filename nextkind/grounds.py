@@ -1,0 +1,168 @@
+"""The standings that fit a book and a house, numbered, the deeds that lead from one to another, and walks there."""
+
+from nextkind.checks import ascending, is_number
+from nextkind.deeds import Come, Go, Row
+from nextkind.standings import changed, fitting_rows, standing_with
+
+
+class Ground:
+    """The standings that fit, told by their indexes in the order of `fitting`: the empty one is 0.
+
+    Kinds, bays and pairs are told by their indexes in the book's tuples, and deeds by theirs in their order: that of
+    the kind for a coming, and behind all kinds that of the pair for a going. The places, a number for each bay, are
+    those of the house or of one that is at most it: what fits that one fits the house, so a plan needs one ground.
+    """
+
+    REFUSED = -1
+    BARRED = -2
+
+    def __init__(self, book, house, most):
+        rows = fitting_rows(book, house, most)
+        tops = places_of(book, house)
+        self._pairs = book.pairs
+        self._pair_ats = indexes(book.pairs)
+        self._kind_ats = indexes(book.kinds)
+        self._deeds = [Come(kind) for kind in book] + [Go(kind, bay) for kind, bay in book.pairs]
+        self._deed_ats = indexes([deed.parts for deed in self._deeds])
+        self._picks = [picks_at(book, kind) for kind in book]
+        self._numbers = [numbers for numbers, counts, free in rows]
+        self._ats = indexes(self._numbers)
+        self._let = [lets_more(book, counts) for numbers, counts, free in rows]
+        self._taken = [tuple([top - left for top, left in zip(tops, free)]) for numbers, counts, free in rows]
+        self._under = [self._one_less(numbers) for numbers in self._numbers]
+        self._above = [{} for _ in rows]
+        for at, under in enumerate(self._under):
+            for pair_at in under:
+                self._above[under[pair_at]][pair_at] = at
+
+    def _one_less(self, numbers):
+        """The standings with one thing less than these numbers, by the pair of this thing."""
+        pair_ats = [pair_at for pair_at, number in enumerate(numbers) if number > 0]
+        return {pair_at: self._ats[changed(numbers, pair_at, -1)] for pair_at in pair_ats}
+
+    def asked(self, kind):
+        """The indexes of the kinds asked for: all if the kind is None."""
+        return [self._kind_ats[name] for name in self._kind_ats if kind in (None, name)]
+
+    def answer(self, places, at, kind_at):
+        """What a coming does: the pair at which the thing stands then, REFUSED or BARRED."""
+        if not self._let[at][kind_at]:
+            return Ground.BARRED
+        taken = self._taken[at]
+        for bay_at, keep, pair_at in self._picks[kind_at]:
+            if places[bay_at] - taken[bay_at] > keep:
+                return pair_at
+        return Ground.REFUSED
+
+    def answers(self, places, at):
+        """What a coming of each kind does, in order."""
+        return [self.answer(places, at, kind_at) for kind_at in range(len(self._picks))]
+
+    def steps(self, at, answers):
+        """The pairs of a deed and the standing behind it, in order, where comings do what the answers tell."""
+        comings = [(kind_at, self._above[at][answer]) for kind_at, answer in enumerate(answers) if answer >= 0]
+        under = self._under[at]
+        return comings + [(len(answers) + pair_at, under[pair_at]) for pair_at in under]
+
+    def index_of(self, parts):
+        """The standing with these parts, None for any value that is not the parts of one that fits."""
+        if not isinstance(parts, tuple):
+            return None
+        numbers = [0 for _ in self._pairs]
+        last = -1
+        for part in parts:
+            pair_at = self._pair_told(part)
+            # The pairs ascend with their indexes: so must those of the parts.
+            if pair_at is None or pair_at <= last:
+                return None
+            numbers[pair_at] = part[2]
+            last = pair_at
+        return self._ats.get(tuple(numbers))
+
+    def _pair_told(self, part):
+        """The pair of any value that is a triple of a pair of the book and a number from 1, None for others."""
+        if not isinstance(part, tuple) or len(part) != 3:
+            return None
+        if not (isinstance(part[0], str) and isinstance(part[1], str) and is_number(part[2]) and part[2] > 0):
+            return None
+        return self._pair_ats.get((part[0], part[1]))
+
+    def below_all(self, tops):
+        """The standings below some, and these themselves: a dict of True."""
+        inside = {at: True for at in tops}
+        queue = list(inside)
+        while queue:
+            under = self._under[queue.pop()]
+            for pair_at in under:
+                if under[pair_at] not in inside:
+                    inside[under[pair_at]] = True
+                    queue.append(under[pair_at])
+        return inside
+
+    def greatest_of(self, inside):
+        """Those of some standings, with all that is below them, that are below no other one, ascending."""
+        return [at for at in ascending(inside) if not any([more in inside for more in list(self._above[at].values())])]
+
+    def standing_at(self, at):
+        """The standing with this index."""
+        return standing_with({pair: number for pair, number in zip(self._pairs, self._numbers[at]) if number > 0})
+
+    def row_of(self, deed_ats):
+        """The row of the deeds with these indexes."""
+        deeds = [self._deeds[deed_at] for deed_at in deed_ats]
+        return Row(*deeds)
+
+
+class Walk:
+    """A walk from the empty standing through what comes about, to each by the row with the fewest deeds, the first.
+
+    It goes on until one of the kinds asked is found refused. What it tells by the indexes of standings: `came`, the
+    standing ahead and the deed behind it by which this one was met first; `onward`, the steps from there. By the
+    indexes of kinds: `stops`, the first standing that was met at which the kind is refused.
+    """
+
+    def __init__(self, ground, places, asked):
+        self.came = {0: (0, None)}
+        self.onward = {}
+        self.stops = {}
+        queue = [0]
+        # Each standing of the queue has its steps once it is done with, so these tell how many are.
+        while len(self.onward) < len(queue) and not any([kind_at in self.stops for kind_at in asked]):
+            at = queue[len(self.onward)]
+            answers = ground.answers(places, at)
+            for kind_at, answer in enumerate(answers):
+                if answer == Ground.REFUSED and kind_at not in self.stops:
+                    self.stops[kind_at] = at
+            self.onward[at] = ground.steps(at, answers)
+            for deed_at, behind in self.onward[at]:
+                if behind not in self.came:
+                    self.came[behind] = (at, deed_at)
+                    queue.append(behind)
+
+    def way_to(self, at):
+        """The deeds that lead to a standing that comes about."""
+        deed_ats = []
+        while at != 0:
+            at, deed_at = self.came[at]
+            deed_ats.append(deed_at)
+        return deed_ats[::-1]
+
+
+def indexes(things):
+    """The dict from each of some things to its index."""
+    return {thing: at for at, thing in enumerate(things)}
+
+
+def places_of(book, house):
+    """The numbers of places of a house in the bays of a book, in order."""
+    return tuple([house[bay] for bay in book.bays])
+
+
+def picks_at(book, kind):
+    """The picks of a kind's rule: the bay, the keep, and the pair of the kind and the bay."""
+    return [(book.bays.index(bay), keep, book.pairs.index((kind, bay))) for bay, keep in book[kind]]
+
+
+def lets_more(book, counts):
+    """For each kind, whether the quota lets one thing of it more than these counts."""
+    return [book.lets(changed(counts, kind_at, 1)) for kind_at in range(len(counts))]
