@@ -60,9 +60,34 @@ class Ground:
 
     def steps(self, at, answers):
         """The pairs of a deed and the standing behind it, in order, where comings do what the answers tell."""
-        comings = [(kind_at, self._above[at][answer]) for kind_at, answer in enumerate(answers) if answer >= 0]
+        above = self._above[at]
+        comings = [(kind_at, above[answer]) for kind_at, answer in enumerate(answers) if answer >= 0]
         under = self._under[at]
         return comings + [(len(answers) + pair_at, under[pair_at]) for pair_at in under]
+
+    def behind_comings(self, at, answers):
+        """The standings behind the comings that go somewhere, as the answers tell."""
+        return [self._above[at][answer] for answer in answers if answer >= 0]
+
+    def kind_of(self, value):
+        """The kind that any value names, None if it names none."""
+        return self._kind_ats.get(value) if isinstance(value, str) else None
+
+    def behind(self, places, at, part):
+        """The standing behind the deed with these parts, None for any value that is no deed there."""
+        if not isinstance(part, tuple) or not all([isinstance(word, str) for word in part]):
+            return None
+        deed_at = self._deed_ats.get(part)
+        if deed_at is None:
+            return None
+        if deed_at >= len(self._picks):
+            return self._under[at].get(deed_at - len(self._picks))
+        answer = self.answer(places, at, deed_at)
+        return self._above[at][answer] if answer >= 0 else None
+
+    def fits_in(self, places, at):
+        """Whether a standing fits these places."""
+        return all([number <= place for number, place in zip(self._taken[at], places)])
 
     def index_of(self, parts):
         """The standing with these parts, None for any value that is not the parts of one that fits."""

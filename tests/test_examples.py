@@ -111,6 +111,39 @@ REACH = """
 raises Never
 """
 
+PAPERS = """
+>>> from nextkind.looker import shows_exact, shows_plan, shows_serving
+>>> from nextkind.papers import exact_paper, plan_paper, serving_paper
+>>> paper = serving_paper(book, House(b=1, s=2))
+>>> [paper, shows_serving(book, House(b=1, s=2), paper), shows_serving(book, two, paper)]
+[('serves', ((('small', 's', 2),), (('big', 'b', 1), ('small', 's', 1)))), True, False]
+>>> [serving_paper(book, two), shows_serving(book, two, ("refuses", "small", (("come", "big"),)))]
+[('refuses', 'big', (('come', 'small'), ('come', 'small'), ('go', 'small', 's'))), False]
+>>> [exact_paper(book, House(b=2))[1][0], shows_exact(book, House(b=2), exact_paper(book, House(b=2)))]
+[((('small', 'b', 2),), (('come', 'small'), ('come', 'small'))), True]
+>>> [plan_paper(book)[2], shows_plan(book, plan_paper(book))]
+[(((0, None), 'big', ()), ((1, 1), 'big', (('come', 'small'), ('come', 'small'), ('go', 'small', 's')))), True]
+"""
+
+PLANS = """
+>>> from nextkind.plans import plan
+>>> found = plan(book)
+>>> [found.bays, found.least, found.greatest, found(House(b=1, s=10 ** 30)), two in found, str(found.least_houses[0])]
+[('b', 's'), ((1, 2), (2, 0)), ((0, None), (1, 1)), True, False, 'b 1 s 2']
+>>> [found.cheapest(b=5, s=2)[0], str(found.cheapest(b=5, s=2)[1]), found.spare(House(b=2, n=7, s=3)), plan(book, "small").least, plan(book, "small").greatest]
+[9, 'b 1 s 2', ('b', 'n', 's'), ((0, 2), (1, 1), (2, 0)), ((0, 1), (1, 0))]
+>>> [(found & plan(book, "small")) == found, found <= plan(book, "small"), plan(book.exchanged("small", First())).least]
+[True, True, ()]
+>>> plan(book, "tiny")
+raises NoKind('tiny')
+"""
+
+COVERS = """
+>>> from nextkind.covers import covers
+>>> [bool(covers(book, kept)), bool(covers(kept, book)), str(covers(kept, book).house)]
+[True, False, 'b 2']
+"""
+
 READERS = """
 >>> [House.read("none") == House(), House.read("none 3")["none"], str(Standing.read("a b 2 a c 1"))]
 [True, 3, 'a b 2 a c 1']
@@ -119,6 +152,9 @@ raises BadText(0, 6)
 >>> Standing.read("a c 1 a b 2")
 raises BadText(0, 4)
 """
+
+
+SECTIONS = (HOUSES, RULES, QUOTAS, BOOKS, STANDINGS, DEEDS, HALLS, REACH, PAPERS, PLANS, COVERS, READERS)
 
 
 def answer(line, names):
@@ -147,7 +183,7 @@ class Examples(unittest.TestCase):
 
     def test_examples(self):
         names = {}
-        for section in (HOUSES, RULES, QUOTAS, BOOKS, STANDINGS, DEEDS, HALLS, REACH, READERS):
+        for section in SECTIONS:
             lines = section.strip().split("\n")
             shown = []
             for line in lines:

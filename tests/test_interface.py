@@ -41,6 +41,10 @@ CLASSES = {
     "nextkind.reach.Reach": {
         "greatest": None, "row_to": "self standing", "refused": None, "refusal": "self kind=None",
         "at_once": "self kind=None bay=None", "rows": "self n"},
+    "nextkind.plans.Plan": {
+        "bays": None, "least": None, "greatest": None, "least_houses": None, "__call__": "self house",
+        "cheapest": "self **prices", "cheapest_by": "self table", "spare": "self house"},
+    "nextkind.covers.Covering": {"house": None},
 }
 
 SIGNS = {
@@ -55,10 +59,17 @@ SIGNS = {
     "nextkind.deeds.Row": "len getitem iter add eq str",
     "nextkind.halls.Hall": "len contains getitem setitem iadd isub",
     "nextkind.reach.Reach": "contains len iter bool",
+    "nextkind.plans.Plan": "contains bool and or le ge eq",
+    "nextkind.covers.Covering": "bool",
 }
 
 FUNCTIONS = {"nextkind.rules.parting": "one other", "nextkind.standings.fitting": "book house",
-             "nextkind.reach.reach": "book house"}
+             "nextkind.reach.reach": "book house", "nextkind.papers.serving_paper": "book house kind=None",
+             "nextkind.papers.exact_paper": "book house", "nextkind.papers.plan_paper": "book kind=None",
+             "nextkind.looker.shows_serving": "book house paper kind=None", "nextkind.looker.shows_exact": "book house paper",
+             "nextkind.looker.shows_plan": "book paper kind=None",
+             "nextkind.looker.shows_sure": "book house standing paper kind=None", "nextkind.plans.plan": "book kind=None",
+             "nextkind.covers.covers": "one other kind=None"}
 GENERATORS = ("nextkind.standings.fitting", "nextkind.houses.House.lesser", "nextkind.reach.Reach.rows")
 
 

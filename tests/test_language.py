@@ -105,7 +105,10 @@ class Statements(unittest.TestCase):
     def test_module_level(self):
         for name, tree in TREES.items():
             for node in tree.body[1:]:
-                self.assertIsInstance(node, (ast.ImportFrom, ast.ClassDef, ast.FunctionDef), name)
+                self.assertIsInstance(node, (ast.ImportFrom, ast.ClassDef, ast.FunctionDef, ast.Assign), name)
+                if isinstance(node, ast.Assign):
+                    self.assertTrue(len(node.targets) == 1 and node.targets[0].id.isupper(), name)
+                    self.assertIsInstance(eval(ast.unparse(node.value), {"__builtins__": {}}), int)
             self.assertIsNotNone(ast.get_docstring(tree), name)
 
     def test_decorators(self):
@@ -151,8 +154,10 @@ class Statements(unittest.TestCase):
                 self.assertEqual(len(node.args), 1)
                 self.assertIsInstance(node.args[0], ast.ListComp, name)
                 self.assertEqual(node.args[0].elt.func.id, "int", name)
-            if node.func.id in ("any", "all", "sum"):
+            if node.func.id in ("any", "all"):
                 self.assertIsInstance(node.args[0], ast.ListComp, name)
+            if node.func.id == "sum":
+                self.assertIsInstance(node.args[0], (ast.ListComp, ast.Name), name)
 
     def test_strings(self):
         told = docstrings()
@@ -218,8 +223,10 @@ class Names(unittest.TestCase):
         for name, tree in TREES.items():
             top = [alias.name for node in tree.body if isinstance(node, ast.ImportFrom) for alias in node.names]
             top += [node.name for node in tree.body if isinstance(node, (ast.ClassDef, ast.FunctionDef))]
+            top += [node.targets[0].id for node in tree.body if isinstance(node, ast.Assign)]
             self.assertEqual(len(top), len(set(top)), name)
-            inner = [node.id for node in ast.walk(tree) if isinstance(node, ast.Name) and isinstance(node.ctx, ast.Store)]
+            inner = [node.id for part in tree.body if not isinstance(part, ast.Assign) for node in ast.walk(part)
+                     if isinstance(node, ast.Name) and isinstance(node.ctx, ast.Store)]
             inner += [node.arg for node in ast.walk(tree) if isinstance(node, ast.arg)]
             self.assertEqual(sorted(set(inner) & set(top)), [], name)
 
