@@ -74,15 +74,15 @@ def called(node, classes, functions, methods):
             continue
         if isinstance(inner.func, ast.Attribute) and inner.func.attr == "__init__":
             nodes.extend(inits(inner.func.value.id, classes))
-        elif isinstance(inner.func, ast.Attribute):
-            nodes.extend(methods.get(inner.func.attr, []))
-            if inner.func.attr not in {*methods, *PLAIN, *CHANGERS}:
-                other.append(ast.unparse(inner))
-        elif isinstance(inner.func, ast.Name) and inner.func.id in classes:
-            nodes.extend(inits(inner.func.id, classes))
-        elif isinstance(inner.func, ast.Name) and inner.func.id in functions:
-            nodes.extend(functions[inner.func.id])
-        elif not (isinstance(inner.func, ast.Name) and hasattr(builtins, inner.func.id)):
+            continue
+        name = inner.func.attr if isinstance(inner.func, ast.Attribute) else inner.func.id
+        # A name stands for all that is called so, functions and methods.
+        nodes.extend(inits(name, classes) + functions.get(name, []) + methods.get(name, []))
+        if isinstance(inner.func, ast.Attribute):
+            known = name in {*methods, *PLAIN, *CHANGERS}
+        else:
+            known = name in classes or name in functions or hasattr(builtins, name)
+        if not known:
             other.append(ast.unparse(inner))
     return nodes, other
 

@@ -52,6 +52,14 @@ def sums(kind, bays, most):
     return plan(Book.of(Cap(most, kind), {kind: First(*bays)}))
 
 
+def point(**numbers):
+    """The plan with one least house."""
+    found = plan(Book(Cap(0)))
+    for bay, number in numbers.items():
+        found = found & sums("a", [bay], number)
+    return found
+
+
 def some_plans(seed, many):
     """Some plans of books and kinds, with their bays."""
     plans = []
@@ -310,6 +318,13 @@ class Joined(unittest.TestCase):
         check_error(self, many, lambda: (one & sums("b", "vw", 10)) | (sums("a", "stv", 5) & sums("b", "uw", 10)))
         # Bays are counted first.
         check_error(self, ("TooMany", ("what", "bays"), ("most", 5)), lambda: one & sums("b", "vwx", 5))
+
+    def test_just_250_least_ones(self):
+        wide = (sums("a", "stu", 5) & sums("b", "vw", 10)) | sums("a", "st", 12)
+        for more in (point(u=12), point(v=12), point(w=12), point(t=4, v=11), point(s=4, v=11), point(u=4, v=11)):
+            wide = wide | more
+        self.assertEqual([len(wide.least), wide & wide == wide], [250, True])
+        check_error(self, ("TooMany", ("what", "houses"), ("most", 250)), lambda: wide | point(s=4, w=11))
 
     def test_many_in_a_few_seconds(self):
         began = time.process_time()
