@@ -1,7 +1,7 @@
 """Lookers: whether any value is a paper that shows what it tells. They play and add, and search nothing."""
 
 from nextkind.checks import check_kind, is_number, is_within
-from nextkind.grounds import Ground, places_of
+from nextkind.grounds import Field, Ground, places_of
 from nextkind.houses import risen
 from nextkind.plans import highest, is_above_one, is_most, lowest, tops_of
 from nextkind.standings import Standing, check_fit
@@ -87,7 +87,7 @@ def is_serving_shown(ground, places, asked, paper):
     if is_paper(paper, "refuses", 3):
         kind_at = ground.kind_of(paper[1])
         at = place_behind(ground, places, paper[2])
-        return kind_at in asked and at is not None and ground.answer(places, at, kind_at) == Ground.REFUSED
+        return kind_at in asked and at is not None and ground.answer(places, at, kind_at) == Field.REFUSED
     return False
 
 
@@ -108,7 +108,7 @@ def is_kept(ground, places, asked, inside, following):
     """
     for at in inside:
         answers = ground.answers(places, at)
-        if any([answers[kind_at] == Ground.REFUSED for kind_at in asked]):
+        if any([answers[kind_at] == Field.REFUSED for kind_at in asked]):
             return False
         if following is not None and not all([behind in following for behind in ground.behind_comings(at, answers)]):
             return False

@@ -29,6 +29,11 @@ def plan_paper(book, kind=None):
     return ("plan", tuple(least), tuple(greatest))
 
 
+def sure_paper(found):
+    """The paper that shows for how many comings kinds are sure."""
+    return ("sure", found.comings, tuple([tuple([standing.parts for standing in some]) for some in found.lists]))
+
+
 def row_shown(book, numbers, kind):
     """The numbers of a house of a plan, and behind them what the paper of this house tells."""
     enough = book.enough

@@ -188,18 +188,22 @@ def tops_of(book):
     """The numbers of places that are enough, by bays; raises TooMany if more than 250 houses are at most these."""
     enough = book.enough
     tops = tuple([enough[bay] for bay in book.bays])
-    many = 1
-    for top in tops:
-        many = many * (top + 1)
-    if many > 250:
+    if many_within(tops) > 250:
         raise TooMany("houses", 250)
     return tops
 
 
+def many_within(tops):
+    """How many tuples of numbers are at most the tops."""
+    many = 1
+    for top in tops:
+        many = many * (top + 1)
+    return many
+
+
 def is_refusing(ground, places, asked):
     """Whether one of the kinds asked is refused with these places."""
-    stops = Walk(ground, places, asked).stops
-    return any([kind_at in stops for kind_at in asked])
+    return Walk(ground, places, asked).is_stopped(asked)
 
 
 def plan(book, kind=None):

@@ -2,7 +2,7 @@
 
 from nextkind.checks import ascending, check_kind
 from nextkind.errors import Never, TooMany
-from nextkind.grounds import Ground, Walk, places_of
+from nextkind.grounds import Field, Ground, Walk, places_of
 from nextkind.standings import Standing
 
 
@@ -15,7 +15,7 @@ class Reach:
         self._walk = Walk(self._ground, places_of(book, house), [])
         self._standings = tuple([self._ground.standing_at(at) for at in ascending(self._walk.came)])
         self._greatest = tuple([self._ground.standing_at(at) for at in self._ground.greatest_of(self._walk.came)])
-        self._refused = tuple([kind for at, kind in enumerate(book) if at in self._walk.stops])
+        self._refused = tuple([kind for at, kind in enumerate(book) if (Field.REFUSED, at) in self._walk.stops])
 
     @property
     def greatest(self):
@@ -31,18 +31,13 @@ class Reach:
         """The row with the fewest deeds that leads to a standing, of those alike the first in order."""
         if standing not in self:
             raise Never(standing)
-        return self._way_to(self._ground.index_of(standing.parts))
+        return self._ground.row_of(self._walk.way_to(self._ground.index_of(standing.parts)))
 
     def refusal(self, kind=None):
         """A pair of the kind, or of the one that is refused first, and the first row behind which it is refused."""
         check_kind(self._book, kind)
-        asked = [other for other in self._refused if kind in (None, other)]
-        best = None
-        for name in asked:
-            row = self._way_to(self._walk.stops[self._book.kinds.index(name)])
-            if best is None or len(row) < len(best[1]):
-                best = (name, row)
-        return best
+        found = self._walk.ending(Field.REFUSED, self._ground.asked(kind))
+        return None if found is None else (self._book.kinds[found[0]], self._ground.row_of(found[1]))
 
     def at_once(self, kind=None, bay=None):
         """The greatest number of things of a kind, or of all, in a bay, or in all, that come about at once."""
@@ -73,10 +68,6 @@ class Reach:
                 # The empty standing at the beginning stands behind no deed.
                 if deed_ats:
                     deed_ats.pop()
-
-    def _way_to(self, at):
-        """The first row with the fewest deeds that leads to the standing with this index."""
-        return self._ground.row_of(self._walk.way_to(at))
 
     def __contains__(self, x):
         return isinstance(x, Standing) and self._ground.index_of(x.parts) in self._walk.came

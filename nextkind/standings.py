@@ -175,25 +175,39 @@ def fitting(book, house):
 
 def fitting_rows(book, house, most):
     """For each standing that fits, at most so many, in order: its numbers by pairs, its counts, the free places."""
+    return rows_at(book, spots_of(book), tuple([house[bay] for bay in book.bays]), most)
+
+
+def spots_of(book):
+    """The spots at which things of a book can stand, one for each of its pairs, as `rows_at` takes them."""
+    return [(book.kinds.index(kind), (book.bays.index(bay),)) for kind, bay in book.pairs]
+
+
+def rows_at(book, spots, free, most):
+    """For each way, at most so many, in which things fit at spots, in order: its numbers, its counts, the free places.
+
+    A spot tells a kind and the bays in which one thing of it takes a place, by their indexes.
+    """
     # What is below a standing that fits does, too: no beginning of these numbers is without an end.
-    rows = [((), tuple([0 for _ in book]), tuple([house[bay] for bay in book.bays]))]
-    for kind, bay in book.pairs:
-        rows = longer_fitting(book, rows, book.kinds.index(kind), book.bays.index(bay), most)
+    rows = [((), tuple([0 for _ in book]), free)]
+    for kind_at, bay_ats in spots:
+        rows = longer_fitting(book, rows, kind_at, bay_ats, most)
     return rows
 
 
-def longer_fitting(book, rows, kind_at, bay_at, most):
-    """The rows, numbers with the counts and the free places, with each number at one pair more that fits."""
+def longer_fitting(book, rows, kind_at, bay_ats, most):
+    """The rows, numbers with the counts and the free places, with each number at one spot more that fits."""
     longer = []
     for numbers, counts, free in rows:
         number = 0
-        while free[bay_at] >= 0 and book.lets(counts):
+        while book.lets(counts) and not any([free[bay_at] < 0 for bay_at in bay_ats]):
             if len(longer) == most:
                 raise TooMany("standings", most)
             longer.append((numbers + (number,), counts, free))
             number = number + 1
             counts = changed(counts, kind_at, 1)
-            free = changed(free, bay_at, -1)
+            for bay_at in bay_ats:
+                free = changed(free, bay_at, -1)
     return longer
 
 

@@ -144,6 +144,36 @@ COVERS = """
 [True, False, 'b 2']
 """
 
+LIMITS = """
+>>> from nextkind.limits import limits
+>>> found = limits(book, two)
+>>> [found.kinds, found.greatest, found.least, found.serves(small=1), found.serves(small=10 ** 20, big=0), found.serves()]
+[('big', 'small'), ((0, 2), (1, 1)), ((1, 2),), True, True, False]
+"""
+
+SURE = """
+>>> from nextkind.sure import sure
+>>> found = sure(book, two)
+>>> [found.comings, str(found.row[1]), [[str(standing) for standing in some] for some in found.lists], sure(book, two, both).comings]
+[2, 'come small ; come small ; go small s', [['none'], ['small s 1', 'big b 1']], 1]
+>>> found = sure(book, House(b=2))
+>>> [found.comings, found.row, [[str(standing) for standing in some] for some in found.lists]]
+[None, None, [['none'], ['small b 1', 'big b 1'], ['small b 2', 'big b 1 small b 1']]]
+"""
+
+ALONG = """
+>>> from nextkind.along import beside, carried
+>>> ring = Book(Cap(1, "a") & Cap(1, "c") & Cap(1, "e"), a=First("n", "s"), c=First("s", "m"), e=First("s"))
+>>> small, large = House(m=1, s=1), House(m=1, n=1, s=1)
+>>> found = beside(ring, small, ring, large)
+>>> [found.here, found.there, found.both]
+[('a', (('come', 'c'),)), ('e', (('come', 'a'), ('come', 'c'), ('go', 'a', 's', 'n'))), ('e', (('come', 'c'),))]
+>>> str(carried(ring, small, "n", Row.read("come a ; come c ; go a n"), "e"))
+'come c'
+>>> carried(ring, small, "n", Row.read("come a ; go a s"), "e")
+raises NotRefused(1)
+"""
+
 READERS = """
 >>> [House.read("none") == House(), House.read("none 3")["none"], str(Standing.read("a b 2 a c 1"))]
 [True, 3, 'a b 2 a c 1']
@@ -154,7 +184,7 @@ raises BadText(0, 4)
 """
 
 
-SECTIONS = (HOUSES, RULES, QUOTAS, BOOKS, STANDINGS, DEEDS, HALLS, REACH, PAPERS, PLANS, COVERS, READERS)
+SECTIONS = (HOUSES, RULES, QUOTAS, BOOKS, STANDINGS, DEEDS, HALLS, REACH, PAPERS, PLANS, COVERS, LIMITS, SURE, ALONG, READERS)
 
 
 def answer(line, names):

@@ -45,6 +45,10 @@ CLASSES = {
         "bays": None, "least": None, "greatest": None, "least_houses": None, "__call__": "self house",
         "cheapest": "self **prices", "cheapest_by": "self table", "spare": "self house"},
     "nextkind.covers.Covering": {"house": None},
+    "nextkind.limits.Limits": {
+        "kinds": None, "greatest": None, "least": None, "serves": "self **numbers", "serves_all": "self table"},
+    "nextkind.sure.Sure": {"comings": None, "row": None, "lists": None},
+    "nextkind.along.Beside": {"here": None, "there": None, "both": None, "greatest": None},
 }
 
 SIGNS = {
@@ -61,6 +65,8 @@ SIGNS = {
     "nextkind.reach.Reach": "contains len iter bool",
     "nextkind.plans.Plan": "contains bool and or le ge eq",
     "nextkind.covers.Covering": "bool",
+    "nextkind.sure.Sure": "bool",
+    "nextkind.along.Beside": "bool",
 }
 
 FUNCTIONS = {"nextkind.rules.parting": "one other", "nextkind.standings.fitting": "book house",
@@ -69,7 +75,9 @@ FUNCTIONS = {"nextkind.rules.parting": "one other", "nextkind.standings.fitting"
              "nextkind.looker.shows_serving": "book house paper kind=None", "nextkind.looker.shows_exact": "book house paper",
              "nextkind.looker.shows_plan": "book paper kind=None",
              "nextkind.looker.shows_sure": "book house standing paper kind=None", "nextkind.plans.plan": "book kind=None",
-             "nextkind.covers.covers": "one other kind=None"}
+             "nextkind.covers.covers": "one other kind=None", "nextkind.papers.sure_paper": "found",
+             "nextkind.limits.limits": "book house", "nextkind.sure.sure": "book house standing=None kind=None",
+             "nextkind.along.carried": "book house bay row kind", "nextkind.along.beside": "book house other_book other_house"}
 GENERATORS = ("nextkind.standings.fitting", "nextkind.houses.House.lesser", "nextkind.reach.Reach.rows")
 
 
