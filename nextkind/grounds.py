@@ -33,6 +33,10 @@ class Field:
         spot_ats = [spot_at for spot_at, number in enumerate(numbers) if number > 0]
         return {spot_at: self._ats[changed(numbers, spot_at, -1)] for spot_at in spot_ats}
 
+    def all_ats(self):
+        """The indexes of all standings."""
+        return list(range(len(self._numbers)))
+
     def counts_at(self, at):
         """How many things of each kind a standing has."""
         return self._counts[at]
@@ -118,6 +122,10 @@ class Ground(Field):
     def fits_in(self, places, at):
         """Whether a standing fits these places."""
         return all([number <= place for number, place in zip(self._taken[at], places)])
+
+    def full_bays(self, places, at):
+        """For each bay whether a standing leaves it without a free place."""
+        return tuple([number == place for number, place in zip(self._taken[at], places)])
 
     def index_of(self, parts):
         """The standing with these parts, None for any value that is not the parts of one that fits."""

@@ -1,7 +1,7 @@
-"""The words of a text of one line, as the readers take them."""
+"""The words of a line of a text, as the readers take them."""
 
 from nextkind.checks import is_name
-from nextkind.errors import BadText
+from nextkind.errors import BadLine, BadText
 
 
 def number_of(word):
@@ -14,12 +14,13 @@ def number_of(word):
 
 
 class Words:
-    """The words of a text, taken one by one; the first that cannot stand raises BadText."""
+    """The words of a line of a text, taken one by one; the first that cannot stand raises BadText."""
 
-    def __init__(self, text):
+    def __init__(self, text, line=0):
         if not isinstance(text, str):
             raise BadText(0, 0)
         self._words = text.split(" ")
+        self._line = line
         self._at = 0
 
     def more(self):
@@ -37,7 +38,7 @@ class Words:
     def check(self, good):
         """Raise BadText at the next word unless it is good there."""
         if not good:
-            raise BadText(0, self._at)
+            raise BadText(self._line, self._at)
 
     def step(self):
         """Take the next word, whatever it is."""
@@ -65,3 +66,12 @@ class Words:
     def end(self):
         """Raise BadText if a word is left."""
         self.check(not self.more())
+
+
+class LineWords(Words):
+    """The words of a line of the desk; the first that cannot stand raises BadLine."""
+
+    def check(self, good):
+        """Raise BadLine at the next word unless it is good there."""
+        if not good:
+            raise BadLine(self._at)

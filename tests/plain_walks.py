@@ -156,3 +156,34 @@ def limited(book, row):
     for kind, number in zip(book.kinds, row):
         quota = quota & Cap(number, kind)
     return book.under(quota)
+
+
+def lamps_lit(world, numbers):
+    """The bays of the book that have no free place at a standing, ascending."""
+    taken = {bay: 0 for bay in world.book.bays}
+    for (_, bay), number in zip(world.pairs, numbers):
+        taken[bay] += number
+    return tuple(bay for bay in sorted(taken) if taken[bay] == world.house[bay])
+
+
+def lamps_rows(world, changes):
+    """For each standing that may stand behind changes of lamps the first of the rows with the fewest deeds.
+
+    A walk through all deeds, where a place is a number of changes seen and a standing.
+    """
+    found = {(0, world.empty): ()}
+    layer = dict(found)
+    while layer:
+        behind = {}
+        for (seen, numbers), row in layer.items():
+            for parts, after in world.steps(numbers):
+                changed = set(lamps_lit(world, numbers)) ^ set(lamps_lit(world, after))
+                assert len(changed) < 2
+                if changed and (seen == len(changes) or changes[seen] not in changed):
+                    continue
+                place = (seen + len(changed), after)
+                if place not in found and row + (parts,) < behind.get(place, (("z",),)):
+                    behind[place] = row + (parts,)
+        found.update(behind)
+        layer = behind
+    return {numbers: row for (seen, numbers), row in found.items() if seen == len(changes)}

@@ -174,17 +174,49 @@ ALONG = """
 raises NotRefused(1)
 """
 
+LAMPS = """
+>>> from nextkind.lamps import Lamps
+>>> lamps = Lamps(book, two)
+>>> [lamps.change("s"), lamps.change("b"), lamps.lit, [str(standing) for standing in lamps.standings], lamps.fates("big")]
+[None, None, ('b', 's'), ['small b 1 small s 1', 'big b 1 small s 1'], ('barred',)]
+>>> lamps += "s"
+>>> [lamps.seen, [str(standing) for standing in lamps.standings], lamps.fates("big"), lamps.fates("small")]
+[('s', 'b', 's'), ['small b 1', 'big b 1'], ('barred', 'refused'), ('goes',)]
+>>> lamps.change("n")
+raises Never('n')
+"""
+
 READERS = """
->>> [House.read("none") == House(), House.read("none 3")["none"], str(Standing.read("a b 2 a c 1"))]
-[True, 3, 'a b 2 a c 1']
+>>> from nextkind.reader import read_book
+>>> from nextkind.texts import book_text
+>>> book_text(kept)
+'quota both both cap 2 1 small cap 1 1 big cap 2 2 big small\\nkind big b\\nkind small s or b keep 1'
+>>> [read_book(book_text(kept)) == kept, House.read("none") == House(), House.read("none 3")["none"], str(Standing.read("a b 2 a c 1"))]
+[True, True, 3, 'a b 2 a c 1']
 >>> Quota.read("both cap 2 1 a cap 13 0")
 raises BadText(0, 6)
+>>> read_book("quota cap 1 1 a\\nkind a s or")
+raises BadText(1, 4)
 >>> Standing.read("a c 1 a b 2")
 raises BadText(0, 4)
 """
 
+DESK = """
+>>> from nextkind.desk import Desk
+>>> desk = Desk()
+>>> desk.run("house b 1 s 1", "quota cap 2 2 big small", "kind small s or b", "kind big b", "come small", "come small", "go small s", "fate big")
+['ok', 'ok', 'ok', 'ok', 'to s', 'to b', 'ok', 'refused']
+>>> desk.run("things", "serves", "plan", "limits", "sure", "undo", "things")
+['small b 1', 'refuses big behind come big', 'least 2 0 greatest 1 any', 'greatest 0 2 / 1 1 least 1 2 / 2 0', '0', 'ok', 'small b 1 small s 1']
+>>> desk.ask("serves tiny")
+raises NoKind('tiny')
+>>> desk.ask("go small")
+raises BadLine(2)
+"""
 
-SECTIONS = (HOUSES, RULES, QUOTAS, BOOKS, STANDINGS, DEEDS, HALLS, REACH, PAPERS, PLANS, COVERS, LIMITS, SURE, ALONG, READERS)
+
+SECTIONS = (HOUSES, RULES, QUOTAS, BOOKS, STANDINGS, DEEDS, HALLS, REACH, PAPERS, PLANS, COVERS, LIMITS, SURE, ALONG, LAMPS,
+            READERS, DESK)
 
 
 def answer(line, names):

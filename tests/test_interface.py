@@ -49,6 +49,12 @@ CLASSES = {
         "kinds": None, "greatest": None, "least": None, "serves": "self **numbers", "serves_all": "self table"},
     "nextkind.sure.Sure": {"comings": None, "row": None, "lists": None},
     "nextkind.along.Beside": {"here": None, "there": None, "both": None, "greatest": None},
+    "nextkind.lamps.Lamps": {
+        "__init__": "self book house", "change": "self bay", "undo": "self", "seen": None, "lit": None, "standings": None,
+        "fates": "self kind", "row_to": "self standing"},
+    "nextkind.desk.Desk": {
+        "__init__": "self", "ask": "self line", "__call__": "self line", "run": "self *lines", "book": None, "house": None,
+        "standing": None},
 }
 
 SIGNS = {
@@ -67,6 +73,8 @@ SIGNS = {
     "nextkind.covers.Covering": "bool",
     "nextkind.sure.Sure": "bool",
     "nextkind.along.Beside": "bool",
+    "nextkind.lamps.Lamps": "len iadd",
+    "nextkind.desk.Desk": "len call",
 }
 
 FUNCTIONS = {"nextkind.rules.parting": "one other", "nextkind.standings.fitting": "book house",
@@ -77,7 +85,8 @@ FUNCTIONS = {"nextkind.rules.parting": "one other", "nextkind.standings.fitting"
              "nextkind.looker.shows_sure": "book house standing paper kind=None", "nextkind.plans.plan": "book kind=None",
              "nextkind.covers.covers": "one other kind=None", "nextkind.papers.sure_paper": "found",
              "nextkind.limits.limits": "book house", "nextkind.sure.sure": "book house standing=None kind=None",
-             "nextkind.along.carried": "book house bay row kind", "nextkind.along.beside": "book house other_book other_house"}
+             "nextkind.along.carried": "book house bay row kind", "nextkind.along.beside": "book house other_book other_house",
+             "nextkind.texts.book_text": "book", "nextkind.reader.read_book": "text"}
 GENERATORS = ("nextkind.standings.fitting", "nextkind.houses.House.lesser", "nextkind.reach.Reach.rows")
 
 

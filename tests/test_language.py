@@ -108,8 +108,23 @@ class Statements(unittest.TestCase):
                 self.assertIsInstance(node, (ast.ImportFrom, ast.ClassDef, ast.FunctionDef, ast.Assign), name)
                 if isinstance(node, ast.Assign):
                     self.assertTrue(len(node.targets) == 1 and node.targets[0].id.isupper(), name)
-                    self.assertIsInstance(eval(ast.unparse(node.value), {"__builtins__": {}}), int)
+                    if isinstance(node.value, ast.Dict):
+                        self.check_table(name, tree, node)
+                    else:
+                        self.assertIsInstance(eval(ast.unparse(node.value), {"__builtins__": {}}), int)
             self.assertIsNotNone(ast.get_docstring(tree), name)
+
+    def check_table(self, name, tree, made):
+        """Fail unless a dict has words and functions defined above it, and is only copied by `list` and indexed."""
+        above = [node.name for node in tree.body[:tree.body.index(made)] if isinstance(node, ast.FunctionDef)]
+        self.assertTrue(all(isinstance(key, ast.Constant) and isinstance(key.value, str) for key in made.value.keys), name)
+        self.assertTrue(all(isinstance(value, ast.Name) and value.id in above for value in made.value.values), name)
+        told = made.targets[0].id
+        nodes = [node for node in ast.walk(tree) if isinstance(node, (ast.Call, ast.Subscript, ast.Attribute, ast.Compare))]
+        used = [ast.unparse(node) for node in nodes for part in ast.iter_child_nodes(node)
+                if isinstance(part, ast.Name) and part.id == told]
+        self.assertEqual(len(used), len([node for node in ast.walk(tree) if isinstance(node, ast.Name) and node.id == told]) - 1)
+        self.assertTrue(all(text == f"list({told})" or text.startswith(f"{told}[") for text in used), used)
 
     def test_decorators(self):
         for name, node in functions():
