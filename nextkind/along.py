@@ -37,7 +37,9 @@ def spot_of(book, house, standing, deed):
     """The bay to which a deed leads or out of which it takes a thing; None if it cannot be done."""
     if not isinstance(deed, Come):
         return deed.bay if standing[deed.kind, deed.bay] > 0 else None
-    fate = book.fate(house, standing, deed.kind) if deed.kind in book else ("barred",)
+    if deed.kind not in book:
+        return None
+    fate = book.fate(house, standing, deed.kind)
     return fate[1] if fate[0] == "goes" else None
 
 

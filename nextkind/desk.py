@@ -84,9 +84,8 @@ def pages_until(page):
 
 def put_house(page, words):
     """Carry out `house HOUSE`."""
-    places = places_from(words)
-    words.end()
-    return (Page(page, page.the_book, House.of(places), Standing.none()), "ok")
+    house = House.of(places_from(words))
+    return (Page(page, page.the_book, house, Standing.none()), "ok")
 
 
 def put_quota(page, words):

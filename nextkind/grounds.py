@@ -52,14 +52,14 @@ class Field:
         """The standings behind the comings that go somewhere, as the answers tell."""
         return [self._above[at][answer] for answer in answers if answer >= 0]
 
-    def below_all(self, tops, met=()):
-        """The standings below some, and these themselves, but for those met with all that is below: a dict of True."""
-        inside = {at: True for at in tops if at not in met}
+    def below_all(self, tops):
+        """The standings below some, and these themselves: a dict of True."""
+        inside = {at: True for at in tops}
         queue = list(inside)
         while queue:
             under = self._under[queue.pop()]
             for spot_at in under:
-                if under[spot_at] not in inside and under[spot_at] not in met:
+                if under[spot_at] not in inside:
                     inside[under[spot_at]] = True
                     queue.append(under[spot_at])
         return inside

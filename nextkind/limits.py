@@ -70,7 +70,7 @@ class Limited:
 
 def check_told(found, kind):
     """Raise NoKind unless any value is one of the kinds of limits."""
-    if not isinstance(kind, str) or kind not in found.kinds:
+    if kind not in found.kinds:
         raise NoKind(kind)
 
 

@@ -1,12 +1,15 @@
 """Sure: for how many comings nobody is refused, whatever goes between."""
 
-from nextkind.checks import check_kind
+from nextkind.checks import ascending, check_kind
 from nextkind.grounds import Field, Ground, Walk, places_of
 from nextkind.standings import Standing, check_fit
 
 
 class Sure:
-    """For how many comings kinds are sure at a standing, the row behind which one is not, and what shows it."""
+    """For how many comings kinds are sure at a standing, the row behind which one is not, and what shows it.
+
+    The levels are, for each number of comings from 0 on, the standings to which no row with fewer of them leads.
+    """
 
     def __init__(self, ground, levels, comings, row):
         self._ground = ground
@@ -39,52 +42,31 @@ class Sure:
         return self._comings is None
 
 
-class Nearest:
-    """A field with just those steps by which each standing is met with the fewest comings, and with no more than most.
+def numbers_of(walk, kinds):
+    """The numbers of comings and of deeds of the rows by which the standings were met, in the order of meeting.
 
-    So all rows to one standing have the same numbers of comings and of deeds.
+    They are the fewest: all rows to one standing have as many comings more than goings as there are things more, so
+    the row with the fewest deeds has the fewest comings, too.
     """
-
-    def __init__(self, field, levels, most):
-        self._field = field
-        self._fewest = {at: number for number, level in enumerate(levels) for at in level}
-        self._most = most
-
-    def answers(self, places, at):
-        """The answers of the field."""
-        return self._field.answers(places, at)
-
-    def steps(self, at, answers):
-        """Those of the steps of the field."""
-        steps = []
-        for deed_at, behind in self._field.steps(at, answers):
-            number = self._fewest[at] + (1 if deed_at < len(answers) else 0)
-            if self._fewest[behind] == number and number <= self._most:
-                steps.append((deed_at, behind))
-        return steps
+    numbers = {}
+    for at in walk.came:
+        before, deed_at = walk.came[at]
+        if deed_at is None:
+            numbers[at] = (0, 0)
+        else:
+            comings, deeds = numbers[before]
+            numbers[at] = (comings + (1 if deed_at < kinds else 0), deeds + 1)
+    return numbers
 
 
-def levels_from(ground, places, start):
-    """For each number of comings from 0 on the standings to which rows with so many, but not with fewer, lead."""
-    met = ground.below_all([start])
-    levels = [list(met)]
-    while levels[-1]:
-        tops = [behind for at in levels[-1] for behind in ground.behind_comings(at, ground.answers(places, at))]
-        level = list(ground.below_all(tops, met))
-        for at in level:
-            met[at] = True
-        levels.append(level)
-    return levels[:-1]
-
-
-def comings_until(ground, places, levels, asked):
-    """The fewest comings behind which one of the kinds asked is refused, None if none ever is."""
-    for number, level in enumerate(levels):
-        for at in level:
-            answers = ground.answers(places, at)
-            if any([answers[kind_at] == Field.REFUSED for kind_at in asked]):
-                return number
-    return None
+def levels_of(numbers):
+    """For each number of comings from 0 on the standings for which it is the fewest."""
+    levels = []
+    for at in numbers:
+        while len(levels) <= numbers[at][0]:
+            levels.append([])
+        levels[numbers[at][0]].append(at)
+    return levels
 
 
 def sure(book, house, standing=None, kind=None):
@@ -94,12 +76,15 @@ def sure(book, house, standing=None, kind=None):
     check_fit(start, book, house)
     ground = Ground(book, house, 2000)
     places = places_of(book, house)
-    asked = ground.asked(kind)
-    start_at = ground.index_of(start.parts)
-    levels = levels_from(ground, places, start_at)
-    comings = comings_until(ground, places, levels, asked)
-    if comings is None:
-        return Sure(ground, levels, None, None)
-    walk = Walk(Nearest(ground, levels, comings), places, [], start_at)
-    kind_at, deed_ats = walk.ending(Field.REFUSED, asked)
-    return Sure(ground, levels, comings, (book.kinds[kind_at], ground.row_of(deed_ats)))
+    walk = Walk(ground, places, [], ground.index_of(start.parts))
+    numbers = numbers_of(walk, len(book))
+    refusals = []
+    for turn, at in enumerate(numbers):
+        answers = ground.answers(places, at)
+        kind_ats = [kind_at for kind_at in ground.asked(kind) if answers[kind_at] == Field.REFUSED]
+        refusals.extend([numbers[at] + (kind_at, turn, at) for kind_at in kind_ats])
+    if not refusals:
+        return Sure(ground, levels_of(numbers), None, None)
+    comings, deeds, kind_at, turn, at = ascending(refusals)[0]
+    row = ground.row_of(walk.way_to(at))
+    return Sure(ground, levels_of(numbers), comings, (book.kinds[kind_at], row))
