@@ -81,9 +81,12 @@ def are_tuples(value, size):
 def is_serving_shown(ground, places, asked, paper):
     """Whether a paper shows that none of the kinds asked is refused with these places, or that one is."""
     if is_paper(paper, "serves", 2):
-        inside = below_told(ground, places, paper[1])
-        # Of an empty list nothing is below: it is not shut.
-        return bool(inside) and is_kept(ground, places, asked, inside, inside)
+        tops = ats_told(ground, places, paper[1])
+        # An empty list is not shut.
+        if not tops:
+            return False
+        inside = ground.below_all(tops)
+        return is_kept(ground, places, asked, inside, inside)
     if is_paper(paper, "refuses", 3):
         kind_at = ground.kind_of(paper[1])
         at = place_behind(ground, places, paper[2])
@@ -91,14 +94,14 @@ def is_serving_shown(ground, places, asked, paper):
     return False
 
 
-def below_told(ground, places, parts):
-    """The standings below one of a list told by parts; None for any value that is no list of some that fit."""
+def ats_told(ground, places, parts):
+    """The standings of a list told by parts; None for any value that is no list of some that fit."""
     if not isinstance(parts, tuple) or len(parts) > 2000:
         return None
     tops = [ground.index_of(part) for part in parts]
     if not all([top is not None and ground.fits_in(places, top) for top in tops]):
         return None
-    return ground.below_all(tops)
+    return tops
 
 
 def is_kept(ground, places, asked, inside, following):
@@ -159,12 +162,18 @@ def is_whole(least, greatest, tops):
 
 def are_sure(ground, places, asked, start, lists, is_round):
     """Whether lists of standings show that a start is sure for as many comings as they are, or for any (round)."""
-    inside = below_told(ground, places, lists[0])
-    if inside is None or ground.index_of(start.parts) not in inside:
+    tops = [ats_told(ground, places, parts) for parts in lists]
+    if None in tops:
         return False
-    for parts in lists[1:]:
-        following = below_told(ground, places, parts)
-        if following is None or not is_kept(ground, places, asked, inside, following):
+    inside = ground.below_all(tops[0])
+    if ground.index_of(start.parts) not in inside:
+        return False
+    for turn in range(1, len(tops)):
+        # Of three lists alike nothing is to be found out of the third one: a paper may have very many of them.
+        if turn > 1 and tops[turn] == tops[turn - 1] and tops[turn] == tops[turn - 2]:
+            continue
+        following = ground.below_all(tops[turn])
+        if not is_kept(ground, places, asked, inside, following):
             return False
         inside = following
     return is_kept(ground, places, asked, inside, inside if is_round else None)

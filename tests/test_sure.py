@@ -236,6 +236,16 @@ class Papers(unittest.TestCase):
         for standing in fitting(BOOK, TWO):
             self.assertIs(shows_sure(BOOK, TWO, standing, paper), standing <= two)
 
+    def test_very_many_lists(self):
+        began = time.time()
+        last = sure_paper(sure(WIDE, FULL))[2][-1]
+        self.assertIs(shows_sure(WIDE, FULL, None, ("sure", 2000, (last,) * 2000)), True)
+        self.assertIs(shows_sure(WIDE, FULL, None, ("sure", None, (last,) * 2000)), True)
+        for at in (1, 2, 3, 1000, 1999):
+            lists = (last,) * at + (((),),) + (last,) * (1999 - at)
+            self.assertIs(shows_sure(WIDE, FULL, None, ("sure", 2000, lists)), False)
+        self.assertLess(time.time() - began, 20)
+
     def test_books_without_kinds(self):
         paper = sure_paper(sure(Book(Cap(0)), TWO))
         self.assertEqual(paper, ("sure", None, (((),),)))
